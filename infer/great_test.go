@@ -8,6 +8,7 @@ import (
 
 	"triglyph/api"
 	"triglyph/infer"
+	"triglyph/typ"
 )
 
 // greats is the world with the names of great types that a text has: each has as many nodes as its name tells.
@@ -60,7 +61,7 @@ func TestGreat(t *testing.T) {
 
 // P11.2: types that double with each name.
 func TestDoubling(t *testing.T) {
-	for n := range 40 {
+	for n := range 95 {
 		l := name("x0")
 		for i := n; i > 0; i-- {
 			x := name("x" + strconv.Itoa(i-1))
@@ -217,6 +218,97 @@ func TestManyInGreat(t *testing.T) {
 		}
 		if _, e := infer.Infer(env, x.l); e != x.want {
 			t.Errorf("%d: %d, not %d", i, e, x.want)
+		}
+	}
+}
+
+// packed returns a type of that many nodes, of which nearly as many are variables as may be, each of them once.
+func packed(n int) nodes {
+	var t nodes
+	for num := int64(0); n > 0; n -= 8 {
+		// The last kid of each of these, but of the last one, is the next one.
+		kids, vars := 8, 7
+		if n <= 9 {
+			kids, vars = n-1, n-1
+		}
+		t = append(t, api.Node{Kind: api.TypCon, Text: "Pack", Kids: kids})
+		for range vars {
+			t = append(t, v(num)...)
+			num++
+		}
+		if kids == vars {
+			break
+		}
+	}
+	return t
+}
+
+// P11.2: all 2^20 variables may be needed for something else than for those parts of functions' types that are great,
+// whether these functions are dropped, called, put into other types or compared.
+func TestNoVariablesForGreatParts(t *testing.T) {
+	t.Parallel()
+	g, put := packed(3999), fun(v(0), packed(3998))
+	env := append(world(), sig("drop", fun(v(0), number())), sig("g", g), sig("put", put), sig("closed", sized(3999)), sig("pair", fun(v(0), v(0), v(0))))
+	in, kept := len(typ.Vars(g)), len(typ.Vars(put))
+	if len(g) != 3999 || in != 3499 || len(put) != 4000 || typ.Check(g) != api.OK || typ.Check(put) != api.OK {
+		t.Fatalf("%d and %d nodes, of which %d and %d are variables", len(g), len(put), in, kept)
+	}
+	made, given := fn("x", name("g")), fn("f", app(name("f"), name("g")))
+	both := func(a, b nodes) nodes { return app(app(name("pair"), a), b) }
+	for _, x := range []struct {
+		text string
+		leaf nodes
+		need int // of a leaf
+		join func(a, b nodes) nodes
+		more int // of a join
+	}{
+		{"dropped", ignore(made, one()), in + 3, choice, 0},
+		{"dropped by a function", app(name("drop"), given), in + 4, choice, 0},
+		{"called", app(made, one()), in + 2, choice, 0},
+		{"compared", app(name("put"), made), in + 1 + kept + 1, choice, 0},
+		{"compared by a function", app(name("put"), given), in + 2 + kept + 1, both, 3},
+		{"of a type without variables", app(name("put"), fn("x", name("closed"))), 1 + kept + 1, choice, 0},
+		{"taking one without variables", app(name("put"), fn("f", app(name("f"), name("closed")))), 2 + kept + 1, both, 3},
+		{"taking one, and kept", app(name("put"), fn("f", app(name("f"), name("closed")))), 2 + kept + 1, func(a, b nodes) nodes { return app(app(exp(api.ExpCon, "Pair"), a), b) }, 4},
+	} {
+		leaves := (1<<20 - 10) / (x.need + x.more)
+		all := app(name("drop"), balanced(leaves, x.leaf, x.join))
+		need := leaves*x.need + (leaves-1)*x.more + 2
+		for left, want := range map[int]api.Errno{1<<20 - need: api.OK, 1<<20 - need + 1: api.ErrInferGreat} {
+			env, whole := slices.Clone(env), all
+			for i := range 4 {
+				filler := "filler" + strconv.Itoa(i)
+				env = append(env, sig(filler, chain((left+i)/4)))
+				whole = let("unused", name(filler), whole)
+			}
+			if len(whole) > api.MaxNodes {
+				t.Fatalf("%s: %d nodes", x.text, len(whole))
+			}
+			got, e := infer.Infer(env, whole)
+			if e != want || e == api.OK && !slices.Equal(got, number()) {
+				t.Errorf("%s, with %d variables for others: %d, not %d", x.text, left, e, want)
+			}
+		}
+	}
+}
+
+// P11.2: types that double with each name, and are compared where the names of one of them are in the midst of what
+// the names of the other one stand for.
+func TestDoublingOutOfStep(t *testing.T) {
+	s := func(a nodes) nodes { return app(exp(api.ExpCon, "Some"), a) }
+	twice := func(a nodes) nodes { return app(app(exp(api.ExpCon, "Pair"), a), a) }
+	env := append(world(), sig("Some", fun(v(0), con("Some", v(0)))), sig("drop", fun(v(0), number())))
+	const high = 30
+	a, c := func(i int) nodes { return name("a" + strconv.Itoa(i)) }, func(i int) nodes { return name("c" + strconv.Itoa(i)) }
+	for last, want := range map[string]api.Errno{"n": api.OK, "s": api.ErrInferType} {
+		l := app(name("drop"), choice(a(high), twice(c(high))))
+		for i := high; i > 0; i-- {
+			l = match(s(twice(c(i-1))), exp(api.PatVar, "c"+strconv.Itoa(i)), l)
+			l = match(twice(s(a(i-1))), exp(api.PatVar, "a"+strconv.Itoa(i)), l)
+		}
+		l = match(s(name("n")), exp(api.PatVar, "c0"), match(twice(s(name(last))), exp(api.PatVar, "a0"), l))
+		if got, e := infer.Infer(env, l); e != want || e == api.OK && !slices.Equal(got, number()) {
+			t.Errorf("the last is %s: %d, not %d", last, e, want)
 		}
 	}
 }

@@ -7,6 +7,7 @@ import (
 
 	"triglyph/api"
 	"triglyph/infer"
+	"triglyph/tree"
 	"triglyph/typ"
 )
 
@@ -219,5 +220,34 @@ func TestValue(t *testing.T) {
 	}
 	if !infer.Value(wide) {
 		t.Error("a wide value")
+	}
+}
+
+// P11.2: types of one Text and different numbers of kids are different.
+func TestNumbersOfKids(t *testing.T) {
+	types := []nodes{con("T"), con("T", number()), con("T", v(0)), con("T", number(), number()), con("T", v(0), v(1), v(0)), con("T", v(0), number(), number())}
+	for i, a := range types {
+		for j, b := range types {
+			env := []api.Sig{sig("a", a), sig("b", b)}
+			want := api.ErrInferType
+			if len(tree.Kids(a, 0)) == len(tree.Kids(b, 0)) {
+				want = api.OK
+			}
+			if got, e := infer.Infer(env, choice(name("a"), name("b"))); e != want || want == api.OK && len(got) != len(a) {
+				t.Errorf("%d and %d: %v, %d, not %d", i, j, got, e, want)
+			}
+		}
+	}
+}
+
+// P11.2: a constructor without variables in its type is matched where it also was made equal to something else.
+func TestConstructorsWithoutVariables(t *testing.T) {
+	env := append(world(), sig("A", fun(number(), word(), number(), con("T"))))
+	other := "fun x -> fun y -> fun z -> raise x"
+	for _, first := range []string{"if 1 then A else " + other, "if 1 then " + other + " else A", "if 1 then A else A", "A 1 s"} {
+		l := read(t, "match "+first+" with _ -> match A 1 s 2 with A x y z -> Pair (x + z) (cat y y) end end")
+		if got, e := infer.Infer(env, l); e != api.OK || !slices.Equal(got, con("Pair", number(), word())) {
+			t.Errorf("%s: %v, %d", first, got, e)
+		}
 	}
 }

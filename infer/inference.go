@@ -1,27 +1,21 @@
 package infer
 
 import (
-	"slices"
-
 	"triglyph/api"
-	"triglyph/data"
-	"triglyph/tree"
 	"triglyph/typ"
 )
 
-// arrow is the Text of the TypCon of functions.
-const arrow = "->"
-
 // An inference is the inference of the type of one expression, as far as it has come. After the first error nothing
-// is unified any more, and the types that are returned mean nothing.
+// is made equal any more, and the types that are returned mean nothing. The store gives the fresh variables.
 type inference struct {
 	*typ.Store
 	scope
-	env    map[string]scheme // what the environment tells of the names and constructors of the expression
-	l      []api.Node        // the expression
-	at     int               // the index of the node that is next
-	needed int               // how many fresh variables were needed
-	fault  api.Errno         // the first error
+	env    map[string]*term // the types of the environment's names and constructors that the expression has
+	l      []api.Node       // the expression
+	at     int              // the index of the node that is next
+	needed int              // how many fresh variables were needed
+	fault  api.Errno        // the first error
+	mark   int              // the greatest mark of a term
 }
 
 // next returns the next node of the expression.
@@ -39,129 +33,130 @@ func (s *inference) fail(e api.Errno) {
 }
 
 // equal makes two types equal.
-func (s *inference) equal(a, b []api.Node) {
-	if s.fault == api.OK && s.Unify(a, b) != api.OK {
+func (s *inference) equal(a, b *term) {
+	if s.fault != api.OK {
+		return
+	}
+	var work solver
+	if !work.solve(equation{a, b}) || s.circular(work.bound) {
 		s.fail(api.ErrInferType)
 	}
 }
 
-// resolve returns the type t with all that is known of its variables.
-func (s *inference) resolve(t []api.Node) []api.Node {
-	if s.fault != api.OK {
-		return nil
-	}
-	t, e := s.Resolve(t)
-	if e != api.OK {
-		s.fail(api.ErrInferGreat)
-	}
-	return t
+// circular reports whether one of these terms has become a part of itself.
+func (s *inference) circular(terms []*term) bool {
+	begun := s.mark + 1
+	s.mark += 2
+	return circular(terms, begun)
 }
 
-// need counts a fresh variable.
-func (s *inference) need() {
+// fresh returns a fresh variable.
+func (s *inference) fresh() *term {
 	s.needed++
 	if s.needed > api.MaxVar {
 		s.fail(api.ErrInferGreat)
 	}
+	return &term{node: s.Fresh()[0]}
 }
 
-// variable returns a variable of the store that has not been used; it is not counted.
-func (s *inference) variable() []api.Node {
-	v := s.Fresh()
-	// The store has one variable more than may be counted. So this happens only if part has taken many.
-	if v[0].Num > api.MaxVar {
-		s.fail(api.ErrInferGreat)
-	}
-	return v
-}
-
-// fresh returns a fresh variable.
-func (s *inference) fresh() []api.Node {
-	s.need()
-	return s.variable()
-}
-
-// instance returns the type of a scheme, with fresh variables instead of the general ones.
-func (s *inference) instance(x scheme) []api.Node {
-	var binds []api.Bind
-	for _, v := range x.general {
-		binds = append(binds, api.Bind{Var: v, Type: s.fresh()})
-	}
-	return typ.Apply(binds, x.body)
-}
-
-// generalize returns the scheme of the type t here: its variables are general, unless one is free in the type of a
-// local.
-func (s *inference) generalize(t []api.Node) scheme {
-	t = s.resolve(t)
-	if s.fault != api.OK {
-		return scheme{}
-	}
-	s.update()
-	general := slices.DeleteFunc(typ.Vars(t), func(v int) bool { return s.free[v] > 0 })
-	return scheme{body: t, general: general}
-}
-
-// update brings all locals up to what is known of their variables now. A type that has become too great is an error.
-func (s *inference) update() {
-	var replaced []api.Bind
-	for v := range s.free {
-		itself := single(v)
-		if t := s.resolve(itself); !slices.Equal(t, itself) {
-			replaced = append(replaced, api.Bind{Var: v, Type: t})
+// instance returns the type x with fresh variables instead of the general ones. What has no general ones in it is
+// shared.
+func (s *inference) instance(x *term) *term {
+	s.mark++
+	var copied func(x *term) *term
+	copied = func(x *term) *term {
+		x = x.root()
+		if !x.general {
+			return x
 		}
-	}
-	if s.fault != api.OK {
-		return
-	}
-	great := func(x *local) bool {
-		for _, b := range replaced {
-			s.replace(x, b.Var, b.Type)
+		if x.mark != s.mark {
+			x.mark, x.copy = s.mark, s.copy(x, copied)
 		}
-		return x.size > api.MaxNodes
+		return x.copy
 	}
-	if s.search(great) != nil {
-		s.fail(api.ErrInferGreat)
-	}
+	return copied(x)
 }
 
-// function returns the type of the functions from one type to another one, of which one is a variable.
-func (s *inference) function(from, to []api.Node) []api.Node {
-	return data.Arrow([][]api.Node{s.part(from)}, s.part(to))
-}
-
-// part returns t, or a variable that is equal to t if a `->` of a variable and t would have too many nodes to be
-// unified. Types that need not be resolved may be as great as they like, so this is no error; and the document does not
-// count this variable.
-func (s *inference) part(t []api.Node) []api.Node {
-	if len(t)+2 <= api.MaxNodes {
-		return t
+// copy returns a fresh variable for a variable, and for another term a copy that has copies of its kids.
+func (s *inference) copy(x *term, copied func(kid *term) *term) *term {
+	if x.node.Kind == api.TypVar {
+		return s.fresh()
 	}
-	v := s.variable()
-	s.equal(v, t)
-	return v
+	kids := make([]*term, len(x.kids))
+	for i, kid := range x.kids {
+		kids[i] = copied(kid)
+	}
+	return constructed(x.node.Text, kids...)
 }
 
-// apply returns the type of what a function of the type f returns for an argument of the type arg.
-func (s *inference) apply(f, arg []api.Node) []api.Node {
-	s.need()
+// resolve returns the nodes of the type x. A type that has too many is an error.
+func (s *inference) resolve(x *term) []api.Node {
 	if s.fault != api.OK {
 		return nil
 	}
-	// Where the parts of f are at hand, the fresh variable for the result would become the second one at once. It is
-	// counted, but the store's variable is left to part.
-	if f[0].Text == arrow {
-		end := tree.End(f, 1)
-		s.equal(f[1:end], arg)
-		return f[end:]
+	s.mark++
+	if s.great(x) {
+		s.fail(api.ErrInferGreat)
+		return nil
 	}
-	to := s.variable()
-	s.equal(f, s.function(arg, to))
-	return to
+	var l []api.Node
+	var write func(x *term)
+	write = func(x *term) {
+		x = x.root()
+		l = append(l, x.node)
+		for _, kid := range x.kids {
+			write(kid)
+		}
+	}
+	write(x)
+	return l
 }
 
-// single returns the type that is the variable with that Num.
-func single(num int) []api.Node { return []api.Node{{Kind: api.TypVar, Num: int64(num)}} }
+// great reports whether the type x has more than 4000 nodes. If not, all terms in it have the mark.
+func (s *inference) great(x *term) bool {
+	var size func(x *term, above int) int
+	size = func(x *term, above int) int {
+		x = x.root()
+		if x.mark == s.mark {
+			return x.size
+		}
+		all := 1
+		for _, kid := range x.kids {
+			// No sum becomes great, and the search does not go deeper than the limit, however great the type is.
+			if above+all > api.MaxNodes {
+				return all
+			}
+			all += size(kid, above+all)
+		}
+		x.mark, x.size = s.mark, all
+		return all
+	}
+	return size(x, 0) > api.MaxNodes
+}
 
-// base returns the type int or text.
-func base(text string) []api.Node { return tree.Make(api.Node{Kind: api.TypCon, Text: text}) }
+// generalize makes those variables of the type x general that are in the type of no local.
+func (s *inference) generalize(x *term) {
+	if s.fault != api.OK {
+		return
+	}
+	s.mark++
+	if s.great(x) {
+		s.fail(api.ErrInferGreat)
+		return
+	}
+	s.mark++
+	if _, found := s.search(func(y local) bool { return s.great(y.is) }); found {
+		s.fail(api.ErrInferGreat)
+		return
+	}
+	var note func(x *term) bool
+	note = func(x *term) bool {
+		x = x.root()
+		x.general = x.node.Kind == api.TypVar && x.mark != s.mark
+		for _, kid := range x.kids {
+			x.general = note(kid) || x.general
+		}
+		return x.general
+	}
+	note(x)
+}
