@@ -253,6 +253,118 @@ func TestGreatMissing(t *testing.T) {
 	}
 }
 
+// either declares what is of one of two types, or two truth values; trees and truth values are in the world.
+func either() []api.Data {
+	return append(world(), decl("Either", 2, ctor("Left", v(0)), ctor("Right", v(1)), ctor("Truths", con("Bool"), con("Bool"))))
+}
+
+// somewhere returns the first n patterns that ask for a leaf somewhere in a tree, and what they leave over: all trees
+// with forks at these places, which have n forks.
+func somewhere(n int) []nodes {
+	var pats []nodes
+	for deep := 0; len(pats) < n; deep++ {
+		leaves(deep, func(p nodes) { pats = append(pats, p) })
+	}
+	return pats[:n]
+}
+
+// forks returns the pattern of a tree with forks down to a depth.
+func forks(deep int) nodes {
+	if deep == 0 {
+		return wild()
+	}
+	return pc("Fork", forks(deep-1), wild(), forks(deep-1))
+}
+
+// in returns patterns that are an argument of a constructor, before which there are some wild ones.
+func in(con string, before int, pats []nodes) []nodes {
+	var all []nodes
+	for _, p := range pats {
+		all = append(all, pc(con, append(slices.Repeat([]nodes{wild()}, before), p)...))
+	}
+	return all
+}
+
+// P12.3: how great the smallest of the values are that are missing is told to the node, whatever else there is.
+func TestSizeOfMissing(t *testing.T) {
+	t.Parallel()
+	tree := con("Tree", number())
+	for _, x := range []struct {
+		text string
+		t    nodes
+		pats []nodes
+		want int // how many nodes what is missing has; 0 if there is nothing
+	}{
+		{"trees of 4000 nodes", tree, somewhere(1333), 4000},
+		{"trees of 4003 nodes", tree, somewhere(1334), 0},
+		{"of 3998 nodes", con("Some", tree), append(in("Some", 0, somewhere(1332)), pc("None")), 3998},
+		{"of 4001 nodes", con("Some", tree), append(in("Some", 0, somewhere(1333)), pc("None")), 0},
+		{"of 3999 nodes", con("Some", con("Some", tree)), append(in("Some", 0, append(in("Some", 0, somewhere(1332)), pc("None"))), pc("None")), 3999},
+		// Trees of 3070 nodes that turn out to be matched, and then others.
+		{"left, then right", con("Either", tree, tree), slices.Concat(in("Right", 0, somewhere(1023)), in("Left", 0, append(somewhere(1023), forks(10))), []nodes{pc("Truths", wild(), wild())}), 3071},
+		{"right, then left", con("Either", tree, tree), slices.Concat(in("Left", 0, somewhere(1023)), in("Right", 0, append(somewhere(1023), forks(10))), []nodes{pc("Truths", wild(), wild())}), 3071},
+		// Of two great trees one may be something else that is small.
+		{"trees, then left", con("Pair", con("Either", tree, con("Loop")), tree), slices.Concat(in("Pair", 1, somewhere(700)), aside(in("Left", 0, somewhere(900))), aside([]nodes{pc("Right", wild()), pc("Truths", pc("True"), pc("True"))})), 2 + 3 + 2101 - 1},
+		{"left, then trees", con("Pair", con("Either", tree, con("Loop")), tree), slices.Concat(aside(in("Left", 0, somewhere(900))), aside([]nodes{pc("Right", wild()), pc("Truths", pc("True"), pc("True"))}), in("Pair", 1, somewhere(700))), 2 + 3 + 2101 - 1},
+		{"two great trees", con("Pair", tree, tree), append(in("Pair", 1, somewhere(700)), aside(somewhere(900))...), 0},
+		{"two trees", con("Pair", tree, tree), append(in("Pair", 1, somewhere(600)), aside(somewhere(732))...), 3999},
+	} {
+		p, is, e := pat.Missing(either(), x.t, x.pats)
+		if e != api.OK || is != (x.want > 0) || len(p) != x.want || is && (pat.Check(either(), x.t, p) != api.OK || pat.First(x.pats, ground(p)) != -1) {
+			t.Errorf("%s: %s, %t, %d, not %d nodes", x.text, tell(p), is, e, x.want)
+		}
+	}
+}
+
+// P12.3: the same where one choice, which makes no node more, makes another one that makes one node more.
+func TestSizeByChoices(t *testing.T) {
+	t.Parallel()
+	b, tree := con("Bool"), con("Tree", number())
+	typ := con("Pair", con("Pair", b, con("Some", b)), con("Pair", b, tree))
+	for _, x := range []struct{ forks, want int }{{1331, 4000}, {1332, 0}, {1330, 3997}} {
+		pats := aside([]nodes{pc("Pair", pc("True"), pc("None")), pc("Pair", pc("False"), pc("Some", wild()))})
+		for _, p := range somewhere(x.forks) {
+			pats = append(pats, pc("Pair", wild(), pc("Pair", pc("True"), p)), pc("Pair", wild(), pc("Pair", pc("False"), p)))
+		}
+		p, is, e := pat.Missing(world(), typ, pats)
+		if e != api.OK || is != (x.want > 0) || len(p) > x.want+1 || is && (pat.Check(world(), typ, p) != api.OK || pat.First(pats, ground(p)) != -1) {
+			t.Errorf("%d forks: %s, %t, %d, not %d nodes", x.forks, tell(p), is, e, x.want)
+		}
+	}
+}
+
+// aside returns patterns of pairs whose first parts these are.
+func aside(pats []nodes) []nodes {
+	var all []nodes
+	for _, p := range pats {
+		all = append(all, pc("Pair", p, wild()))
+	}
+	return all
+}
+
+// P12.3: of constructors that are not in the patterns, one without arguments is missing where others would be too deep.
+func TestFlatMissing(t *testing.T) {
+	deeper := con("Deeper")
+	for _, cons := range [][]api.Ctor{
+		{ctor("Both", deeper, deeper), ctor("Next", deeper), ctor("Zero"), ctor("Last")},
+		{ctor("Zero"), ctor("Last"), ctor("Next", deeper), ctor("Both", deeper, deeper)},
+		{ctor("Zero"), ctor("Next", deeper), ctor("Last"), ctor("Both", deeper, deeper)},
+	} {
+		l := []api.Data{decl("Deeper", 0, cons...)}
+		next := func(n int, p nodes) nodes {
+			return append(slices.Repeat(nodes{{Kind: api.PatCon, Text: "Next", Kids: 1}}, n), p...)
+		}
+		pats := []nodes{next(99, pc("Zero"))}
+		for n := range 99 {
+			pats = append(pats, next(n, pc("Zero")), next(n, pc("Last")), next(n, pc("Both", wild(), wild())))
+		}
+		p, is, e := pat.Missing(l, deeper, pats)
+		if !is || e != api.OK || !slices.Equal(p, next(99, pc("Last"))) {
+			t.Errorf("%s is missing, %t, %d", tell(p), is, e)
+		}
+	}
+}
+
 // truths returns a pattern of 64 truth values, of which these are asked for.
 func truths(asked map[int]string) nodes {
 	var all []nodes

@@ -21,7 +21,7 @@ type want struct {
 	p []api.Node
 }
 
-// A row is one of the patterns that are not to match. It matches if what is chosen at all places is what it asks.
+// A row is one of the patterns that are not to match. It matches if at all places what it asks is chosen.
 type row struct {
 	asks []int // the places of its wants; those at which nothing is chosen are open
 	open int   // how many are open
@@ -56,8 +56,8 @@ func (s *search) overlaps(p []api.Node) bool {
 	})
 }
 
-// add adds the row of the pattern p, which overlaps.
-func (s *search) add(p []api.Node) {
+// add adds the row of the pattern p, which overlaps. It returns false if p matches all values that wanted matches.
+func (s *search) add(p []api.Node) bool {
 	x := &row{off: -1}
 	s.meet(p, func(p []api.Node, at int) bool {
 		if wild(s.wanted[at]) {
@@ -66,6 +66,7 @@ func (s *search) add(p []api.Node) {
 		return true
 	})
 	s.rows = append(s.rows, x)
+	return x.open > 0
 }
 
 // ask notes what x asks of a place: the pattern with which p begins.

@@ -36,8 +36,8 @@ func (k *known) search(t int, wanted []api.Node, limit int) *search {
 // found reports whether there are values that none of these patterns matches.
 func (s *search) found(pats [][]api.Node) bool {
 	for _, p := range pats {
-		if s.overlaps(p) {
-			s.add(p)
+		if s.overlaps(p) && !s.add(p) {
+			return false
 		}
 	}
 	ok, _ := s.find()
@@ -49,9 +49,6 @@ func (s *search) find() (bool, reason) {
 	x := s.next()
 	if x == nil {
 		return true, nil
-	}
-	if x.open == 0 {
-		return false, set(x.asks)
 	}
 	why := reason{}
 	at := x.asks[slices.IndexFunc(x.asks, func(at int) bool { return wild(s.places[at].node) })]
